@@ -671,7 +671,7 @@ func TestFullWorld(t *testing.T) { // P12.1 to P12.4: as many classes as a world
 	compare(t, w, second, ids, second.methods(), second.invocations(r, 5000))
 }
 
-// TestLongChain: what stands at the top of the longest chain is found from its end.
+// TestLongChain: what stands at the top of a chain of nearly all classes of a full world is found from its end.
 func TestLongChain(t *testing.T) { // P12.1 to P12.4, P0.1
 	classes := list(im("I", abstract), cm("C0", "Object", normal))
 	for n := 1; len(classes) < api.MaxClasses-4; n++ {
